@@ -1,0 +1,1 @@
+"""Fademodes: programs with levels that fade, decided for all histories."""
