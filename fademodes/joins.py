@@ -1,7 +1,7 @@
 """Joins: two programs made into one, side by side or one behind the other."""
 
 from fademodes.errors import InvalidName, NameTaken, TooMany, UnknownLetter
-from fademodes.programs import MOST_CONDITIONS, MOST_LEVELS, MOST_MODES, MOST_RULES
+from fademodes.programs import MOST_LEVELS, MOST_MODES, MOST_RULES
 from fademodes.programs import Program, Rule, check_program, check_same_letters
 from fademodes.ratios import Ratio
 
@@ -77,9 +77,10 @@ def _drafts_behind(one, mode, other, other_mode, letter):
 
 
 def _program_of(one, other, table):
-    """Return the program of a dict from modes to dicts from letters to drafts."""
-    for drafts in table.values():
-        _check_condition_numbers(drafts)
+    """Return the program of a dict from modes to dicts from letters to drafts.
+
+    A rule that would have too many conditions is refused by the class Rule.
+    """
     levels = one.levels()
     levels.update(other.levels())
     rules = {}
@@ -127,10 +128,3 @@ def _check_rule_numbers(drafts):
     for letter in drafts:
         if len(drafts[letter]) > MOST_RULES:
             raise TooMany("rules", MOST_RULES)
-
-
-def _check_condition_numbers(drafts):
-    for letter in drafts:
-        for draft in drafts[letter]:
-            if len(draft[2].when()) + len(draft[3].when()) > MOST_CONDITIONS:
-                raise TooMany("conditions", MOST_CONDITIONS)

@@ -129,11 +129,11 @@ class Program:
 
     def modes(self):
         """Return the sorted list of the modes."""
-        return sorted(self._rules)
+        return list(self._rules)
 
     def letters(self):
         """Return the sorted list of the letters."""
-        return sorted(self._rules[self.modes()[0]])
+        return list(self._rules[self.modes()[0]])
 
     def answers(self):
         """Return the sorted list of the answers of all rules."""
@@ -242,7 +242,7 @@ class Program:
         return isinstance(other, Program) and self._levels == other._levels and self._rules == other._rules
 
     def __repr__(self):
-        return f"Program({self.modes()!r}, {self.letters()!r}, {sorted(self._levels)!r})"
+        return f"Program({self.modes()!r}, {self.letters()!r}, {list(self._levels)!r})"
 
 
 def _without_level(rule, level):
@@ -298,7 +298,7 @@ def _has_levels_for(levels, rule):
 def _check_sizes(rules):
     if len(rules) > MOST_MODES:
         raise TooMany("modes", MOST_MODES)
-    for mode in sorted(rules):
+    for mode in rules:
         if len(rules[mode]) > MOST_LETTERS:
             raise TooMany("letters", MOST_LETTERS)
         if max([len(rules[mode][letter]) for letter in rules[mode]]) > MOST_RULES:

@@ -29,7 +29,7 @@ class Ratio:
         """Return a NUMBER as a Ratio."""
         if isinstance(number, Ratio):
             return number
-        return cls(number)
+        return Ratio(number)
 
     @classmethod
     def least(cls, *numbers):

@@ -33,7 +33,6 @@ def ratio_state(program, state):
 
 def step(program, state, letter):
     """Return the state behind a letter, the answer, and the place of the rule that is taken."""
-    check_program(program)
     here = ratio_state(program, state)
     if not is_one_of(letter, program.letters()):
         raise UnknownLetter(letter)
@@ -42,7 +41,6 @@ def step(program, state, letter):
 
 def run(program, state, history):
     """Yield what step returns for each letter of a history."""
-    check_program(program)
     here = ratio_state(program, state)
     _check_history(program, history)
     for letter in list(history):
@@ -58,7 +56,6 @@ def answers_of(program, state, history):
 
 def state_behind(program, state, history):
     """Return the last state of a history."""
-    check_program(program)
     last = ratio_state(program, state)
     for told in run(program, state, history):
         last = told[0]

@@ -25,7 +25,7 @@ NO_STATES = ODD_VALUES + (
     ("open",), ("open", {}), ("open", {"x": 17}), ("open", {"x": -1}), ("open", {"x": Ratio(161, 10)}),
     ("open", {"x": 1, "y": 1}), ("open", {"y": 1}), ("open", {"x": True}), ("open", {"x": "1"}), ("open", {"x": None}),
     ("shut", {"x": 1}), ["open", {"x": 1}], ("open", {"x": 1}, 1), ([], {"x": 1}), (None, {"x": 1}),
-    ("open", [("x", 1)]), ("open", {1: 1}), ({"x": 1}, "open"))
+    ("open", [("x", 1)]), ("open", 5), ("open", None), ("open", "x"), ("open", ["x"]), ("open", {1: 1}), ({"x": 1}, "open"))
 
 
 def mute_step(mode, number, letter):
@@ -154,6 +154,15 @@ class Histories(Checks):
             state[1]["x"] = None
             state[1]["y"] = 1
         self.same(found, [Ratio(8), Ratio(4), Ratio(2), Ratio(1)])
+
+    def test_what_is_passed_can_be_changed_on_the_way(self):
+        state, history = ("open", {"x": 16}), ["tick"] * 3
+        found = []
+        for told in run(MUTE, state, history):
+            found.append(told[0][1]["x"])
+            state[1]["x"] = 1
+            history.append("report")
+        self.same(found, [Ratio(8), Ratio(4), Ratio(2)])
 
     def test_arguments_are_not_changed(self):
         state, history = ("open", {"x": 4}), ["report", "tick"]
