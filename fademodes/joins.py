@@ -13,14 +13,7 @@ def side_by_side(one, other):
     check_same_letters(one, other)
     _check_levels_apart(one, other)
     _check_no_points(one.modes() + one.answers() + other.modes() + other.answers())
-    _check_sizes(one, other)
-    letters = one.letters()
-    table = {}
-    for mode, other_mode in _mode_pairs(one, other):
-        drafts = {letter: _drafts_beside(one, mode, other, other_mode, letter) for letter in letters}
-        _check_rule_numbers(drafts)
-        table[_joined_name(mode, other_mode)] = drafts
-    return _program_of(one, other, table)
+    return _joined(one, other, _drafts_beside)
 
 
 def joined_behind(one, other):
@@ -30,14 +23,7 @@ def joined_behind(one, other):
     _check_answers_taken(one, other)
     _check_levels_apart(one, other)
     _check_no_points(one.modes() + other.modes())
-    _check_sizes(one, other)
-    letters = other.letters()
-    table = {}
-    for mode, other_mode in _mode_pairs(one, other):
-        drafts = {letter: _drafts_behind(one, mode, other, other_mode, letter) for letter in letters}
-        _check_rule_numbers(drafts)
-        table[_joined_name(mode, other_mode)] = drafts
-    return _program_of(one, other, table)
+    return _joined(one, other, _drafts_behind)
 
 
 def joined_state(one_state, other_state):
@@ -53,8 +39,16 @@ def _joined_name(name, other_name):
     return f"{name}.{other_name}"
 
 
-def _mode_pairs(one, other):
-    return [(mode, other_mode) for mode in one.modes() for other_mode in other.modes()]
+def _joined(one, other, drafts_of):
+    """Return the joined program: the letters are in both joins those of the other one."""
+    _check_sizes(one, other)
+    table = {}
+    for mode in one.modes():
+        for other_mode in other.modes():
+            drafts = {letter: drafts_of(one, mode, other, other_mode, letter) for letter in other.letters()}
+            _check_rule_numbers(drafts)
+            table[_joined_name(mode, other_mode)] = drafts
+    return _program_of(one, other, table)
 
 
 def _drafts_beside(one, mode, other, other_mode, letter):
