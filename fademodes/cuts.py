@@ -41,6 +41,44 @@ def is_ahead(one, other):
     return place.is_below(other_place)
 
 
+def count_ahead(cuts, cut):
+    """Return how many cuts of a sequence are ahead of a cut."""
+    low, high = 0, len(cuts)
+    while low < high:
+        middle = (low + high) // 2
+        if is_ahead(cuts[middle], cut):
+            low = middle + 1
+        else:
+            high = middle
+    return low
+
+
+def count_not_behind(cuts, cut):
+    """Return how many cuts of a sequence are not behind a cut."""
+    low, high = 0, len(cuts)
+    while low < high:
+        middle = (low + high) // 2
+        if is_ahead(cut, cuts[middle]):
+            high = middle
+        else:
+            low = middle + 1
+    return low
+
+
+def sorted_cuts(cuts):
+    """Return a list of different cuts in sequence."""
+    found = []
+    for cut in cuts:
+        found.insert(count_ahead(found, cut), cut)
+    return found
+
+
+def cut_key(cut):
+    """Return what tells a cut by its value, fit for a key of a dict."""
+    place, just_above = ratio_cut(cut)
+    return place.top, place.bottom, just_above
+
+
 def is_within(number, stretch):
     """Tell whether a stretch contains a number."""
     ratio = Ratio.of(number)

@@ -228,6 +228,11 @@ class Move:
         return self._low == other._low and self._high == other._high
 
 
+def move_key(move):
+    """Return what tells a move by its parts, fit for a key of a dict."""
+    return move.divisor, str(move.plus), str(move.low), str(move.high)
+
+
 def _whole_turns(ratio):
     """Return the least integer that is not below a number."""
     return -(-ratio.top // ratio.bottom)

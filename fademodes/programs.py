@@ -122,6 +122,15 @@ class Program:
         self._rules = {}
         for mode in sorted(rules):
             self._rules[mode] = {letter: tuple(rules[mode][letter]) for letter in sorted(rules[mode])}
+        self._kept = {}
+
+    def keep(self, name, found):
+        """Keep what was worked out about this program, so that it is worked out once."""
+        self._kept[name] = found
+
+    def kept(self, name):
+        """Return what is kept under a name, or None."""
+        return self._kept.get(name)
 
     def levels(self):
         """Return the dict from the levels to their ranges."""
@@ -153,7 +162,7 @@ class Program:
 
     def rule(self, place):
         """Return the rule at a place."""
-        if not self._is_place(place):
+        if not self.has_place(place):
             raise InvalidPlace(place)
         mode, letter, position = place
         return self._rules[mode][letter][position]
@@ -217,7 +226,8 @@ class Program:
         if not is_one_of(letter, self._rules[mode]):
             raise UnknownLetter(letter)
 
-    def _is_place(self, value):
+    def has_place(self, value):
+        """Tell whether any value is the place of a rule."""
         if not isinstance(value, tuple) or len(value) != 3:
             return False
         mode, letter, position = value
@@ -281,13 +291,14 @@ def _check_rules(levels, rules, mode, letter):
     if not is_list(found) or len(found) == 0:
         raise InvalidRules(mode, letter, None)
     for position, rule in enumerate(found):
-        if not isinstance(rule, Rule) or rule.goal not in rules or not _has_levels_for(levels, rule):
+        if not isinstance(rule, Rule) or rule.goal not in rules or not has_levels_for(levels, rule):
             raise InvalidRules(mode, letter, position)
     if len(found[-1].when()) > 0:
         raise InvalidRules(mode, letter, len(found) - 1)
 
 
-def _has_levels_for(levels, rule):
+def has_levels_for(levels, rule):
+    """Tell whether there are all levels that a rule names, and its moves stay within their ranges."""
     moves = rule.moves()
     named = [condition[0] for condition in rule.when()] + list(moves)
     if not all([level in levels for level in named]):

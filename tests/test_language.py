@@ -24,8 +24,8 @@ NotImplemented property staticmethod classmethod super map""".split())
 METHODS = set("""append clear copy count endswith extend find get index insert isalnum isalpha isdigit islower isspace
 isupper items join keys ljust lower lstrip partition pop remove replace reverse rfind rjust rpartition rsplit rstrip
 setdefault split splitlines startswith strip update upper values zfill bit_length add discard isascii rindex
-removeprefix removesuffix""".split())
-DUNDERS = set("""__init__ __eq__ __repr__ __str__ __len__ __contains__ __add__ __sub__ __mul__ __neg__""".split())
+removeprefix removesuffix popleft""".split())
+DUNDERS = set("""__init__ __eq__ __len__ __repr__ __str__ __len__ __contains__ __add__ __sub__ __mul__ __neg__""".split())
 NOT_USED = set("register mro elements open input law version_info with_traceback add_note".split())
 NOT_IN_CODE = set("""type typing typing_extensions enum Enum IntEnum StrEnum Flag IntFlag Generic Protocol ABC ABCMeta
 namedtuple NamedTuple TypedDict TYPE_CHECKING abstractmethod""".split())
