@@ -11,87 +11,72 @@ def first_passing(field, cut):
     """Return a tuple (state, history) of a state of a start and the first history that passes a cut, or None."""
     if not any([is_beyond(field.side, end, cut) for end in Climb(field).ends]):
         return None
-    many = _fewest_letters(field, cut)
-    needs = _needs(field, cut, many)
-    letters = _first_letters(field, needs, many)
+    layers = _layers(field, cut)
+    letters = _first_letters(field, layers, _needs(field, cut, layers))
     return _first_state(field, cut, letters), field.named(letters)
 
 
-def _fewest_letters(field, cut):
-    """Return the length of the shortest histories that pass a cut.
+def _layers(field, cut):
+    """Return a list of dicts from cells to ends, one for each number of letters up to the fewest that pass a cut.
 
-    An end that is not farther than one that was there with fewer letters leads no farther.
+    Each has only the ends that are farther than with fewer letters: what others lead to, is
+    led to by fewer letters, too.
     """
     found = {number: field.begins[number][0] for number in field.begins}
-    changed = dict(found)
-    for many in range(MOST_LETTERS + 1):
-        if any([is_beyond(field.side, changed[number], cut) for number in changed]):
-            return many
-        changed = _farther_ends(field, found, changed)
-        found.update(changed)
-    raise TooMany("letters", MOST_LETTERS)
+    layers = [dict(found)]
+    while not any([is_beyond(field.side, end, cut) for end in list(layers[-1].values())]):
+        if len(layers) > MOST_LETTERS:
+            raise TooMany("letters", MOST_LETTERS)
+        layers.append(_farther_ends(field, found, layers[-1]))
+        found.update(layers[-1])
+    return layers
 
 
-def _farther_ends(field, found, changed):
-    """Return a dict from cells to the ends that a letter makes of the changed ones, if they are farther."""
+def _farther_ends(field, found, layer):
+    """Return a dict from cells to the ends that a letter makes of those of a layer, if they are farther."""
     fresh = {}
-    for here in changed:
+    for here in layer:
         for way in field.ways[here]:
-            end = field.end_behind(changed[here], way)
+            end = field.end_behind(layer[here], way)
             known = fresh.get(way[0], found.get(way[0]))
             if known is None or is_beyond(field.side, end, known):
                 fresh[way[0]] = end
     return fresh
 
 
-def _needs(field, cut, many):
-    """Return a list of dicts: for each number of letters up to this one, what a cell needs to pass a cut.
+def _needs(field, cut, layers):
+    """Return for each layer a dict from its cells to cuts: the numbers beyond these pass the cut in time."""
+    found = [{number: cut for number in layers[-1]}]
+    for layer in reversed(layers[:-1]):
+        found.append(_needs_ahead(field, layer, found[-1]))
+    return found[::-1]
 
-    A number that is beyond what its cell needs passes the cut within so many letters.
-    """
-    before = _ways_before(field)
-    found = [{number: cut for number in range(len(field.ways))}]
-    changed = found[0]
-    for _ in range(many):
-        changed = _nearer_needs(field, before, found[-1], changed)
-        row = dict(found[-1])
-        row.update(changed)
-        found.append(row)
+
+def _needs_ahead(field, layer, needs):
+    """Return what the cells of a layer need, so that some letter leads to what is needed behind it."""
+    found = {}
+    for here in layer:
+        for number, move in field.ways[here]:
+            if number in needs:
+                need = move.back(needs[number], field.held)
+                if here not in found or is_beyond(field.side, found[here], need):
+                    found[here] = need
     return found
 
 
-def _ways_before(field):
-    """Return for each cell the list of tuples (number, move) of the ways that lead to it."""
-    found = [[] for _ in field.ways]
-    for here, ways in enumerate(field.ways):
-        for number, move in ways:
-            found[number].append((here, move))
-    return found
-
-
-def _nearer_needs(field, before, known, changed):
-    fresh = {}
-    for here in changed:
-        for number, move in before[here]:
-            need = move.back(changed[here], field.held)
-            if is_beyond(field.side, fresh.get(number, known[number]), need):
-                fresh[number] = need
-    return fresh
-
-
-def _first_letters(field, needs, many):
-    """Return the positions of the letters of the first history of this length that passes the cut.
+def _first_letters(field, layers, needs):
+    """Return the positions of the letters of the first of the shortest histories that pass the cut.
 
     All cells that the starts meet go along; at each letter only those stay that can still pass.
     """
-    here = {number: field.begins[number][0] for number in field.begins}
+    here = layers[0]
     letters = []
-    for left in reversed(range(many)):
+    for behind in needs[1:]:
         for letter in range(len(field.ways[0])):
-            behind = _able(field, here, letter, needs[left])
-            if behind:
+            able = _able(field, here, letter, behind)
+            if able:
                 break
-        here = behind
+        here = able
         letters.append(letter)
     return letters
 
@@ -102,7 +87,7 @@ def _able(field, here, letter, needs):
     for number in here:
         way = field.ways[number][letter]
         end = field.end_behind(here[number], way)
-        if is_beyond(field.side, end, needs[way[0]]):
+        if way[0] in needs and is_beyond(field.side, end, needs[way[0]]):
             found[way[0]] = farther(field.side, end, found.get(way[0], end))
     return found
 
