@@ -21,7 +21,8 @@ def cells(program, mode=None):
     if mode is not None and not is_one_of(mode, program.modes()):
         raise UnknownMode(mode)
     modes = program.modes() if mode is None else [mode]
-    yield from needed_grid(program).all_cells(modes)
+    found = needed_grid(program).all_cells(modes)
+    yield from found
 
 
 def is_cell(program, value):

@@ -22,7 +22,8 @@ def class_numbers(answers, nexts):
         is_waiting[splitter] = False
         rows = list(members[splitter])
         for leading in before:
-            for number, halves in _halves(numbers, members, leading, rows):
+            halved = _halves(numbers, members, leading, rows)
+            for number, halves in halved:
                 fresh = _split(numbers, members, number, halves)
                 is_waiting.append(True)
                 if is_waiting[number] or len(members[fresh]) <= len(members[number]):
@@ -35,11 +36,13 @@ def class_numbers(answers, nexts):
 
 def _first_classes(answers):
     """Return the classes of rows with equal answers: the numbers row by row, and the members."""
-    seen = {}
-    numbers = [seen.setdefault(told, len(seen)) for told in answers]
-    members = [[] for _ in seen]
-    for row, number in enumerate(numbers):
-        members[number].append(row)
+    seen, numbers, members = {}, [], []
+    for row, told in enumerate(answers):
+        if told not in seen:
+            seen[told] = len(members)
+            members.append([])
+        numbers.append(seen[told])
+        members[seen[told]].append(row)
     return numbers, members
 
 

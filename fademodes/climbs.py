@@ -58,7 +58,7 @@ class Field:
                     found[number] = (end, position)
         return found
 
-    def part(self, position, number):
+    def start_part(self, position, number):
         """Return the stretches, level by level, of that part of a start that lies in a cell."""
         return part_in_cell(self.grid, self._starts[position], self.reach.found[number])
 
@@ -68,11 +68,11 @@ class Field:
 
     def level_part(self, position, number):
         """Return the stretch of the level in that part of a start that lies in a cell."""
-        return self.part(position, number)[self._at]
+        return self.start_part(position, number)[self._at]
 
     def part_beyond(self, position, number, stretch):
         """Return that part of a start in a cell, with this stretch for the level."""
-        found = self.part(position, number)
+        found = self.start_part(position, number)
         found[self._at] = stretch
         return found
 
@@ -166,5 +166,5 @@ class Climb:
         root, behind = self._way_back(number, None)
         first = reach.first_met(root)
         position = field.begins[first][1]
-        state = field.state(position, field.part(position, first))
+        state = field.state(position, field.start_part(position, first))
         return position, state, reach.history(root), field.named(self._rounds.get(root, [])), field.named(behind)

@@ -34,19 +34,22 @@ def is_above(number, cut):
 
 def is_ahead(one, other):
     """Tell whether a cut is ahead of another one."""
-    place, just_above = ratio_cut(one)
-    other_place, other_just_above = ratio_cut(other)
-    if place == other_place:
-        return other_just_above and not just_above
-    return place.is_below(other_place)
+    return precedes(ratio_cut(one), ratio_cut(other))
+
+
+def precedes(one, other):
+    """Tell whether a cut is ahead of another one, both known to be cuts with Ratios."""
+    if other[1] and not one[1]:
+        return not other[0].is_below(one[0])
+    return one[0].is_below(other[0])
 
 
 def count_ahead(cuts, cut):
-    """Return how many cuts of a sequence are ahead of a cut."""
+    """Return how many cuts of a sequence are ahead of a cut, all with Ratios."""
     low, high = 0, len(cuts)
     while low < high:
         middle = (low + high) // 2
-        if is_ahead(cuts[middle], cut):
+        if precedes(cuts[middle], cut):
             low = middle + 1
         else:
             high = middle
@@ -54,11 +57,11 @@ def count_ahead(cuts, cut):
 
 
 def count_not_behind(cuts, cut):
-    """Return how many cuts of a sequence are not behind a cut."""
+    """Return how many cuts of a sequence are not behind a cut, all with Ratios."""
     low, high = 0, len(cuts)
     while low < high:
         middle = (low + high) // 2
-        if is_ahead(cut, cuts[middle]):
+        if precedes(cut, cuts[middle]):
             high = middle
         else:
             low = middle + 1
@@ -66,7 +69,7 @@ def count_not_behind(cuts, cut):
 
 
 def sorted_cuts(cuts):
-    """Return a list of different cuts in sequence."""
+    """Return a list of different cuts with Ratios in sequence."""
     found = []
     for cut in cuts:
         found.insert(count_ahead(found, cut), cut)
@@ -74,9 +77,8 @@ def sorted_cuts(cuts):
 
 
 def cut_key(cut):
-    """Return what tells a cut by its value, fit for a key of a dict."""
-    place, just_above = ratio_cut(cut)
-    return place.top, place.bottom, just_above
+    """Return what tells a cut with a Ratio by its value, fit for a key of a dict."""
+    return cut[0].top, cut[0].bottom, cut[1]
 
 
 def is_within(number, stretch):

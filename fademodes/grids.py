@@ -1,8 +1,9 @@
 """Grids: the cells of a closed family of cuts, and where letters lead them."""
 
-from fademodes.cuts import count_ahead, count_not_behind, is_ahead, mark_of, ratio_cut
+from fademodes.cuts import count_ahead, count_not_behind, mark_of, precedes, ratio_cut
 from fademodes.errors import TooMany
 from fademodes.kinds import is_one_of, is_position
+from fademodes.moves import WayBack, move_key
 from fademodes.needed import needed_cuts
 from fademodes.programs import condition_cut, wants_above
 
@@ -67,6 +68,7 @@ class Grid:
         for mode in program.modes():
             self._cuts[mode] = [[ratio_cut(cut) for cut in family[mode][level]] for level in self._names]
             self._bounds[mode] = [_bounds_of(held, cuts) for held, cuts in zip(self._ranges, self._cuts[mode])]
+        self._leads = {}
         self._tracks = {}
         self._turns = {}
 
@@ -152,7 +154,7 @@ class Grid:
     def _first_above(self, mode, at, cut):
         """Return the number of the first stretch above a cut that is outer or beyond, or one of the family."""
         cuts = self._cuts[mode][at]
-        if not is_ahead(cut, self._ranges[at].outer()[1]):
+        if not precedes(cut, self._bounds[mode][at][-1]):
             return len(cuts) + 1
         return count_not_behind(cuts, cut)
 
@@ -161,9 +163,15 @@ class Grid:
 
         A cut of the goal is passed from where it is led back to on, since moves keep the order.
         """
-        mode, held = place[0], self._ranges[at]
         move = self.program.move_of(place, self._names[at])
-        firsts = [self._first_above(mode, at, move.back(cut, held)) for cut in self._cuts[goal][at]]
+        key = place[0], goal, at, move_key(move)
+        if key not in self._leads:
+            self._leads[key] = self._new_lead(place[0], goal, at, move)
+        return self._leads[key]
+
+    def _new_lead(self, mode, goal, at, move):
+        way = WayBack(move, self._ranges[at])
+        firsts = [self._first_above(mode, at, way.led(cut)) for cut in self._cuts[goal][at]]
         found = []
         passed = 0
         for position in range(len(self._cuts[mode][at]) + 1):

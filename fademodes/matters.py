@@ -2,7 +2,7 @@
 
 from fademodes.alike import are_alike
 from fademodes.classes import class_numbers, first_parting
-from fademodes.cuts import cut_key
+from fademodes.cuts import cut_key, ratio_cut
 from fademodes.errors import InvalidRules
 from fademodes.grids import every_choice, needed_grid
 from fademodes.kinds import is_list, is_one_of
@@ -105,7 +105,7 @@ def why_matters(program, mode, level, cut):
     portrait, grid = _portrait_of(program), needed_grid(program)
     at = list(program.levels()).index(level)
     keys = [cut_key(other) for other in grid.cuts_of(mode, at)]
-    key = cut_key(cut)
+    key = cut_key(ratio_cut(cut))
     parted = portrait.parted(mode, at, keys.index(key)) if key in keys else None
     if parted is None:
         return None
@@ -125,7 +125,7 @@ def is_why_matters(program, mode, level, cut, value):
     at = list(program.levels()).index(level)
     if one[0] != mode or not _is_next(one, second, at):
         return False
-    if cut_key(grid.stretches(second)[at][0]) != cut_key(cut):
+    if cut_key(grid.stretches(second)[at][0]) != cut_key(ratio_cut(cut)):
         return False
     return _last_answer(grid, one, history) != _last_answer(grid, second, history)
 

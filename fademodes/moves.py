@@ -1,6 +1,6 @@
 """Moves: numbers are raised, divided and held, and their order never turns round."""
 
-from fademodes.cuts import Range, is_above, is_ahead, ratio_cut
+from fademodes.cuts import Range, is_ahead, precedes, ratio_cut
 from fademodes.errors import InvalidCount, InvalidMove, InvalidNumber, InvalidRange, TooMany
 from fademodes.kinds import is_integer
 from fademodes.ratios import Ratio, is_number
@@ -91,14 +91,9 @@ class Move:
 
     def back(self, cut, within):
         """Return a cut led back by the move over a Range."""
-        place, just_above = ratio_cut(cut)
+        ratio = ratio_cut(cut)
         _check_range(within)
-        first, second = within.outer()
-        if is_above(self.at(within.low), cut):
-            return first
-        if not is_above(self.at(within.high), cut):
-            return second
-        return within.fit((place * self._divisor - self._plus, just_above))
+        return WayBack(self, within).led(ratio)
 
     def upper_image(self, cut):
         """Return what the move makes of an upper end."""
@@ -226,6 +221,32 @@ class Move:
         if self._divisor != other._divisor or self._plus != other._plus:
             return False
         return self._low == other._low and self._high == other._high
+
+
+class WayBack:
+    """A move over a range, made ready to lead many cuts back."""
+
+    def __init__(self, move, within):
+        self._move = move
+        self._first, self._second = within.outer()
+        self._lowest = move.at(within.low), False
+        self._highest = move.at(within.high), False
+
+    def led(self, cut):
+        """Return a cut with a Ratio led back, fitted."""
+        if not precedes(self._lowest, cut):
+            return self._first
+        if precedes(self._highest, cut):
+            return self._second
+        led = cut[0] * self._move.divisor - self._move.plus, cut[1]
+        if not precedes(self._first, led):
+            return self._first
+        return led if precedes(led, self._second) else self._second
+
+    def led_inside(self, cut):
+        """Return a cut with a Ratio led back, or None if that is not inner."""
+        led = self.led(cut)
+        return led if precedes(self._first, led) and precedes(led, self._second) else None
 
 
 def move_key(move):

@@ -5,7 +5,7 @@ from collections import deque
 from fademodes.cuts import cut_key, is_ahead, is_cut, ratio_cut, sorted_cuts
 from fademodes.errors import InvalidCut, TooMany, UnknownLevel, UnknownMode
 from fademodes.kinds import is_list, is_one_of, is_position
-from fademodes.moves import move_key
+from fademodes.moves import WayBack, move_key
 from fademodes.programs import check_program, condition_cut
 
 MOST_CUTS = 600
@@ -14,9 +14,10 @@ MOST_CUTS = 600
 def needed_cuts(program):
     """Return the dict from the modes to dicts from the levels to the lists of their needed cuts."""
     check_program(program)
-    found = _empty_family(program)
-    for cut, mode, level in [(reason[0], key[0], key[1]) for key, reason in _reasons_of(program).items()]:
-        found[mode][level].append(cut)
+    reasons = _reasons_of(program)
+    found = {mode: {level: [] for level in program.levels()} for mode in program.modes()}
+    for key in reasons:
+        found[key[0]][key[1]].append(reasons[key][0])
     return {mode: {level: sorted_cuts(found[mode][level]) for level in found[mode]} for mode in found}
 
 
@@ -33,15 +34,15 @@ def why_needed(program, mode, level, cut):
     """Return a tuple (places, place, position) that shows why a cut is needed, or None if it is not."""
     check_mode_level_cut(program, mode, level, cut)
     reasons = _reasons_of(program)
-    key = _key_of(mode, level, cut)
+    key = _key_of(mode, level, ratio_cut(cut))
     if key not in reasons:
         return None
-    places = []
+    path = []
     _, place, position, behind = reasons[key]
     while behind is not None:
-        places.append(place)
+        path.append(place)
         _, place, position, behind = reasons[behind]
-    return places, place, position
+    return path, place, position
 
 
 def is_why_needed(program, mode, level, cut, value):
@@ -49,14 +50,14 @@ def is_why_needed(program, mode, level, cut, value):
     check_mode_level_cut(program, mode, level, cut)
     if not isinstance(value, tuple) or len(value) != 3:
         return False
-    places, place, position = value
-    if not is_list(places) or not _is_path(program, mode, [*places, place]):
+    path, place, position = value
+    if not is_list(path) or not _is_path(program, mode, [*path, place]):
         return False
     when = program.rule(place).when()
     if not is_position(position, len(when)) or when[position][0] != level:
         return False
-    led = _led_back(program, level, places, condition_cut(when[position]))
-    return led is not None and cut_key(led) == cut_key(cut)
+    led = _led_back(program, level, path, condition_cut(when[position]))
+    return led is not None and cut_key(led) == cut_key(ratio_cut(cut))
 
 
 def check_mode_level_cut(program, mode, level, cut):
@@ -68,10 +69,6 @@ def check_mode_level_cut(program, mode, level, cut):
         raise UnknownLevel(level)
     if not is_cut(cut):
         raise InvalidCut(cut)
-
-
-def _empty_family(program):
-    return {mode: {level: [] for level in program.levels()} for mode in program.modes()}
 
 
 def _key_of(mode, level, cut):
@@ -117,15 +114,15 @@ def _lead_back(program, found):
 
     There can be very many needed cuts, so the limit is looked at on the way.
     """
-    ranges, leading = program.levels(), _moves_into(program)
+    leading = _ways_into(program)
     waiting = deque(list(found))
     while waiting:
         behind = waiting.popleft()
         goal, level = behind[0], behind[1]
-        for place, move in leading[goal, level]:
-            cut = move.back(found[behind][0], ranges[level])
-            key = _key_of(place[0], level, cut)
-            if ranges[level].is_inner(cut) and key not in found:
+        for place, way in leading[goal, level]:
+            cut = way.led_inside(found[behind][0])
+            key = None if cut is None else _key_of(place[0], level, cut)
+            if key is not None and key not in found:
                 found[key] = (cut, place, None, behind)
                 waiting.append(key)
                 _check_many(found)
@@ -136,17 +133,20 @@ def _check_many(found):
         raise TooMany("cuts", MOST_CUTS)
 
 
-def _moves_into(program):
-    """Return a dict from pairs (goal, level) to lists of tuples (place, move).
+def _ways_into(program):
+    """Return a dict from pairs (goal, level) to lists of tuples (place, way back).
 
     Of the rules of one mode that move the level alike, one is enough.
     """
-    found = {(mode, level): {} for mode in program.modes() for level in program.levels()}
+    ranges = program.levels()
+    found = {(mode, level): {} for mode in program.modes() for level in ranges}
     for place in program.places():
-        goal = program.rule(place).goal
-        for level in program.levels():
-            move = program.move_of(place, level)
-            found[goal, level].setdefault((place[0], move_key(move)), (place, move))
+        rows = [(level, program.move_of(place, level)) for level in ranges]
+        for level, move in rows:
+            ways = found[program.rule(place).goal, level]
+            key = place[0], move_key(move)
+            if key not in ways:
+                ways[key] = (place, WayBack(move, ranges[level]))
     return {pair: list(found[pair].values()) for pair in found}
 
 
@@ -175,7 +175,7 @@ def _is_sequence(held, value):
 
 
 def _keys_of(cuts):
-    return {cut_key(cut): True for cut in cuts}
+    return {cut_key(ratio_cut(cut)): True for cut in cuts}
 
 
 def _has_conditions(program, keys):
@@ -184,30 +184,31 @@ def _has_conditions(program, keys):
 
 
 def _has_all_led_back(program, family, keys):
-    leading, ranges = _moves_into(program), program.levels()
+    leading = _ways_into(program)
     for goal, level in leading:
-        for place, move in leading[goal, level]:
-            led = [move.back(ratio_cut(cut), ranges[level]) for cut in family[goal][level]]
-            if not all([cut_key(cut) in keys[place[0]][level] for cut in led if ranges[level].is_inner(cut)]):
+        cuts = [ratio_cut(cut) for cut in family[goal][level]]
+        for place, way in leading[goal, level]:
+            led = [way.led_inside(cut) for cut in cuts]
+            if not all([cut is None or cut_key(cut) in keys[place[0]][level] for cut in led]):
                 return False
     return True
 
 
-def _is_path(program, mode, places):
+def _is_path(program, mode, path):
     """Tell whether these are places, the first one of the mode, each of the goal of the one ahead."""
     here = mode
-    for place in places:
+    for place in path:
         if not program.has_place(place) or place[0] != here:
             return False
         here = program.rule(place).goal
     return True
 
 
-def _led_back(program, level, places, cut):
-    """Return a cut led back from the last place to the first one, or None if it is not inner each time."""
+def _led_back(program, level, path, cut):
+    """Return a cut led back from the last place of a path to the first one, or None if it is not inner each time."""
     held = program.levels()[level]
     led = cut if held.is_inner(cut) else None
-    for place in reversed(places):
+    for place in reversed(path):
         if led is None:
             return None
         led = program.move_of(place, level).back(led, held)

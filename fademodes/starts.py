@@ -1,6 +1,6 @@
 """Starts: the states from which a program begins, and the cells that they meet and come to."""
 
-from fademodes.cuts import is_ahead, is_within, mark_of, ratio_cut
+from fademodes.cuts import is_within, mark_of, precedes, ratio_cut
 from fademodes.errors import InvalidStarts, TooMany
 from fademodes.grids import MOST_CELLS, every_choice, many_choices
 from fademodes.kinds import is_list, is_one_of
@@ -72,16 +72,18 @@ def cells_of_starts(grid, starts):
 
 def part_in_cell(grid, start, cell):
     """Return the list of the stretches of that part of a start that lies in a cell, level by level."""
-    rows = zip(stretches_of_start(start), grid.stretches(cell))
-    return [(_later(one[0], other[0]), _earlier(one[1], other[1])) for one, other in rows]
+    found = []
+    for one, other in zip(stretches_of_start(start), grid.stretches(cell)):
+        found.append((_later(one[0], other[0]), _earlier(one[1], other[1])))
+    return found
 
 
 def _later(one, other):
-    return other if is_ahead(one, other) else one
+    return other if precedes(one, other) else one
 
 
 def _earlier(one, other):
-    return one if is_ahead(one, other) else other
+    return one if precedes(one, other) else other
 
 
 def state_in_part(start, part):
@@ -103,14 +105,20 @@ class Reach:
     def _go_on(self, grid):
         at = 0
         while at < len(self.found):
-            for letter, turn in enumerate(grid.turns(self.found[at])):
-                if turn[0] not in self.numbers:
-                    self.numbers[turn[0]] = len(self.found)
-                    self.found.append(turn[0])
-                    self._came.append((at, letter))
-                    if len(self.found) > MOST_CELLS:
-                        raise TooMany("cells", MOST_CELLS)
+            turns = grid.turns(self.found[at])
+            for letter, turn in enumerate(turns):
+                self._add(turn[0], (at, letter))
             at += 1
+
+    def _add(self, cell, came):
+        """Add a cell if it is new."""
+        if cell in self.numbers:
+            return
+        self.numbers[cell] = len(self.found)
+        self.found.append(cell)
+        self._came.append(came)
+        if len(self.found) > MOST_CELLS:
+            raise TooMany("cells", MOST_CELLS)
 
     def came(self, number):
         """Return the number of the cell ahead and the position of the letter, or None for a cell that is met."""

@@ -80,11 +80,13 @@ class Papers(Checks):
         turns = 0
         if turn:
             self.assertEqual(plain_cell(program, needed, here), plain_cell(program, needed, behind(program, here, turn)))
-            turns = 40
+            turns = 80
         last = behind(program, here, turn * turns + after)
         self.assertEqual(plain_cell(program, needed, last), cell)
         number = last[1][level]
         self.assertLessEqual(abs(number - end[0]), NEAR)
+        if end[1] == (side == "upper"):
+            self.assertEqual(number, end[0])
         self.assertEqual(is_over(number, end), side == "lower")
 
     def test_papers_of_mute(self):
