@@ -2,9 +2,9 @@
 
 from fademodes.cuts import Range
 from fademodes.errors import FadeError
-from fademodes.kinds import is_name, is_one_of
+from fademodes.kinds import is_name
 from fademodes.moves import Move
-from fademodes.programs import SIDES, Program, Rule, has_levels_for
+from fademodes.programs import Program, Rule, has_levels_for
 from fademodes.ratios import Ratio
 
 DIGITS = "0123456789"
@@ -68,30 +68,34 @@ def _rule_in(line):
 
 
 def _conditions_in(words):
-    """Return the list of the conditions in words that stand between the letter and the goal, or None."""
+    """Return the list of the conditions in words that stand between the letter and the goal, or None.
+
+    What is no level, no side or no number is left to the class Rule, which refuses it.
+    """
     if len(words) % 4 != 0:
         return None
     found = []
     for at in range(0, len(words), 4):
         link, level, side, text = words[at:at + 4]
-        number = number_in(text)
-        if link != ("and" if at else "if") or not is_name(level) or not is_one_of(side, SIDES) or number is None:
+        if link != ("and" if at else "if"):
             return None
-        found.append((level, side, number))
+        found.append((level, side, number_in(text)))
     return found
 
 
 def _moves_in(parts):
-    """Return the dict of the moves in these parts of a line, or None; the levels must be sorted."""
+    """Return the dict of the moves in these parts of a line, or None; the levels must be sorted.
+
+    What is no level or no move is left to the class Rule, which refuses it.
+    """
     found = {}
     last = ""
     for part in parts:
         words = part.split(" ")
-        move = _move_in(words)
-        if move is None or not is_name(words[0]) or words[0] <= last:
+        if words[0] <= last:
             return None
         last = words[0]
-        found[last] = move
+        found[last] = _move_in(words)
     return found
 
 
@@ -99,8 +103,9 @@ def _move_in(words):
     if len(words) != 8 or (words[1], words[3], words[5]) != ("by", "add", "in"):
         return None
     divisor, plus, low, high = [number_in(words[at]) for at in (2, 4, 6, 7)]
-    if divisor is None or plus is None or low is None or high is None or divisor.bottom != 1:
+    if divisor is None or divisor.bottom != 1:
         return None
+    # A number that could not be read is None, which the class Move refuses.
     try:
         return Move(divisor.top, plus, low, high)
     except FadeError:

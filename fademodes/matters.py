@@ -159,7 +159,6 @@ def idle_levels(program):
 def idle_rules(program, state):
     """Return the sorted list of the places of the rules that are idle from a state."""
     here = ratio_state(program, state)
-    needed_grid(program)
     rows = list(program.places())
     return [place for place in rows if _is_idle(program, here, _without_rule(program, place))]
 
@@ -167,7 +166,6 @@ def idle_rules(program, state):
 def idle_conditions(program, state):
     """Return the sorted list of tuples (place, position) of the conditions that are idle from a state."""
     here = ratio_state(program, state)
-    needed_grid(program)
     found = []
     rows = list(program.places())
     for place in rows:

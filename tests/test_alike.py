@@ -197,6 +197,14 @@ class Papers(Checks):
             pairs = paper[2][:at] + paper[2][at + 1:]
             self.assertIs(is_alike_paper(MUTE, START, loud(), as_loud(START), paper[:2] + (pairs,)), False)
 
+    def test_answers_that_differ(self):
+        one, other = lights(), lights().with_rules("green", "go", [Rule("amber", "run")])
+        family = needed_cuts(one)
+        pairs = [((mode, ()), (mode, ())) for mode in one.modes()]
+        for state, wanted in ((("red", {}), False), (("amber", {}), False)):
+            self.assertIs(is_alike_paper(one, state, one, state, (family, family, pairs)), True)
+            self.assertIs(is_alike_paper(one, state, other, state, (family, family, pairs)), wanted)
+
     def test_more_pairs(self):
         family, other_family, pairs = alike_paper(MUTE, START, loud(), as_loud(START))
         unlike = (("open", (0,)), ("free", (1,)))

@@ -31,7 +31,8 @@ NO_STARTS = ODD_VALUES + (
     ("open", {"x": ((0, False), (17, False))}), ("open", {"x": ((-1, True), (3, False))}), ("open", {"x": (1, 3)}),
     ("open", {"x": ((3, False), (3, False))}), ("open", {"x": ((4, False), (3, False))}), ("open", {"x": (3, False)}),
     ("open", {"x": [(0, False), (3, False)]}), ("open", {"x": ((0, False), (16, True), (16, True))}),
-    ("open", {"x": ((0, False), (16, 1))}), ("open", [("x", 1)]), ([], {"x": 1}), (None, {"x": 1}))
+    ("open", {"x": ((0, False), (16, 1))}), ("open", [("x", 1)]), ([], {"x": 1}), (None, {"x": 1}),
+    ("open", ["x"]), ("open", "x"), ("open", 1), ("open", None))
 
 
 def every(program, mode=None):

@@ -158,6 +158,27 @@ class Code(unittest.TestCase):
             if isinstance(node.func, ast.Name) and node.func.id in ("any", "all", "min", "max", "sum", "sorted"):
                 self.assertFalse([part for part in node.args if isinstance(part, ast.GeneratorExp)], place)
 
+    def test_one_meaning_for_each_name(self):
+        methods = [node.name for _, found in nodes(ast.ClassDef) for node in found.body if isinstance(node, ast.FunctionDef)]
+        stored = {node.attr for _, node in nodes(ast.Attribute) if isinstance(node.ctx, ast.Store)}
+        self.assertFalse(stored & set(methods))
+        generators = {node.name for _, node in nodes(ast.FunctionDef)
+                      if any(isinstance(part, (ast.Yield, ast.YieldFrom)) for part in ast.walk(node))}
+        for name in generators:
+            self.assertEqual(len([node for _, node in nodes(ast.FunctionDef) if node.name == name]), 1, name)
+        for path, tree in TREES:
+            outer = {alias.name for node in tree.body if isinstance(node, ast.ImportFrom) for alias in node.names}
+            outer |= {node.name for node in tree.body if isinstance(node, ast.ClassDef)} | generators
+            inner = {node.id for node in ast.walk(tree) if isinstance(node, ast.Name) and isinstance(node.ctx, ast.Store)}
+            inner |= {node.arg for node in ast.walk(tree) if isinstance(node, ast.arg)}
+            self.assertFalse(outer & inner, path)
+
+    def test_what_is_iterated_at_once(self):
+        for place, node in nodes(ast.Assign):
+            if isinstance(node.value, ast.Call) and isinstance(node.value.func, ast.Name):
+                self.assertNotIn(node.value.func.id, ("zip", "enumerate", "reversed", "map", "iter"), place)
+        self.assertFalse(nodes((ast.GeneratorExp, ast.NamedExpr, ast.Lambda, ast.With, ast.Global, ast.Nonlocal)))
+
     def test_decorators_and_errors(self):
         for place, node in nodes((ast.FunctionDef, ast.ClassDef)):
             for found in node.decorator_list:

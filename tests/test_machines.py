@@ -5,6 +5,7 @@ from itertools import product
 
 from examples import ODD_VALUES, Checks, mute
 from fademodes.cells import cells, state_in
+from fademodes.classes import class_numbers
 from fademodes.errors import InvalidHistory, InvalidPosition, InvalidProgram, InvalidRows, InvalidState, TooMany
 from fademodes.machines import Machine, least_machine
 from fademodes.ratios import Ratio
@@ -34,6 +35,17 @@ def plain_parting(rows, one, other):
 def random_rows(chance, many, letters="ab", answers="uv"):
     pick = chance.random
     return [{letter: (pick.choice(answers), pick.randrange(many)) for letter in letters} for _ in range(many)]
+
+
+def refined(answers, nexts):
+    """Return numbers of classes: those of equal answers, parted by the classes of the next rows as long as that parts any."""
+    numbers, many = answers, 0
+    while len(set(numbers)) > many:
+        many = len(set(numbers))
+        numbers = [(numbers[row], *[numbers[led] for led in nexts[row]]) for row in range(len(nexts))]
+        names = {}
+        numbers = [names.setdefault(number, len(names)) for number in numbers]
+    return numbers
 
 
 def numbers_of_classes(rows):
@@ -131,6 +143,17 @@ class Machines(Checks):
             found = Machine(rows).reduced()
             self.same(found.rows(), plain_least(rows))
             self.assertTrue(found.reduced() == found)
+
+    def test_classes_of_many_rows(self):
+        for seed in range(60):
+            pick = Chance(seed).random
+            many, near = pick.choice((20, 60, 120)), seed % 2
+            rows = [{letter: (pick.choice("uuuuuv"), max(0, at - pick.randint(0, 3)) if near else pick.randrange(many))
+                     for letter in "abc"[:1 + seed % 3]} for at in range(many)]
+            answers = [tuple(told[0] for told in row.values()) for row in rows]
+            nexts = [[told[1] for told in row.values()] for row in rows]
+            found, wanted = class_numbers(answers, nexts), refined(answers, nexts)
+            self.assertEqual([found.index(number) for number in found], [wanted.index(number) for number in wanted])
 
     def test_reduced_with_many_rows(self):
         many = 900

@@ -183,13 +183,17 @@ class ProgramsRead(Checks):
                          ("if x from 4", "if"), ("if x from 4", "if x from"), ("if x from 4", "if x from 4 and"),
                          ("from 4", "from 4 x from 4"), ("from 4", "from 4 or x from 4"), ("from 4", "from 4 if x from 4"),
                          ("from", "at"), ("from 4", "from 8/2"), ("from 4", "from 04"), ("x from", "X from"), ("go ", "to "),
-                         ("go mute", "go Mute"), ("go mute", "go"), ("say mute", "say"), ("say mute", "say Mute"), (" say", "  say"),
+                         ("say", "tell"), ("say", "and"), ("go mute", "go Mute"), ("go mute", "go"), ("say mute", "say"), ("say mute", "say Mute"), (" say", "  say"),
                          ("; x", ";x"), ("; x", " ; x"), ("; x", ";  x"), ("; x", ", x"), ("; x by", "; by"), ("x by", "X by"),
                          ("by 1", "by 2/2"), ("by 1", "by x"), ("by 1", "by 01"), ("add 8", "plus 8"), ("add 8", "add"), ("add 8", "add 16/2"),
                          ("in 0 16", "in 0"), ("in 0 16", "in 0 16 16"), ("in 0 16", "in 0 16;"), ("in 0 16", "in 0 16; "),
                          ("in 0 16", "in 0 16 "), ("in 0 16", "in 0 16; x by 1 add 8 in 0 16"), ("mute;", "mute"), ("on", "")):
             self.assertIn(old, rule)
             self.wrong_at(7, self.changed(7, rule.replace(old, new, 1) + "\n"))
+
+    def test_rules_with_too_few_words(self):
+        for text in ("on", "on go", "on go go", "on go on say", "on go on say no", "on  go on say no", "on go  on say no", "go on say no"):
+            self.wrong_at(3, f"mode on\non go go on say no\n{text}\n")
 
     def test_the_levels_of_moves_are_sorted(self):
         text = "level x: 0 9\nlevel y: 0 9\nmode on\non go go on say yes; {}; {}\non go go on say no\n"
