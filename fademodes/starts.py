@@ -1,5 +1,6 @@
 """Starts: the states from which a program begins, and the cells that they meet and come to."""
 
+from fademodes.classes import letters_behind
 from fademodes.cuts import is_within, mark_of, precedes, ratio_cut
 from fademodes.errors import InvalidStarts, TooMany
 from fademodes.grids import MOST_CELLS, every_choice, many_choices
@@ -133,12 +134,7 @@ class Reach:
 
     def history(self, number):
         """Return the history by which a cell is come to."""
-        letters = []
-        here = number
-        while self._came[here] is not None:
-            here, letter = self._came[here]
-            letters.append(self._letters[letter])
-        return letters[::-1]
+        return [self._letters[letter] for letter in letters_behind(self._came, number)]
 
 
 def reach_of(grid, starts):
