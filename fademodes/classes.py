@@ -121,3 +121,26 @@ def letters_behind(came, at):
         here, letter = came[here]
         letters.append(letter)
     return letters[::-1]
+
+
+def longest_ways(leads):
+    """Return for each row the greatest number of steps from it, or None if they can go on for ever.
+
+    `leads` has a list of rows for each row. A row is reckoned once all those to which it leads
+    are, so none that comes to a round ever is.
+    """
+    before = [[] for _ in leads]
+    left = [len(behind) for behind in leads]
+    for row, behind in enumerate(leads):
+        for led in behind:
+            before[led].append(row)
+    longest = [None] * len(leads)
+    waiting = [row for row, many in enumerate(left) if many == 0]
+    while waiting:
+        row = waiting.pop()
+        longest[row] = max([longest[led] + 1 for led in leads[row]], default=0)
+        for other in before[row]:
+            left[other] -= 1
+            if left[other] == 0:
+                waiting.append(other)
+    return longest

@@ -12,9 +12,14 @@ from fademodes.starts import cells_of_start, check_starts, part_in_cell, reach_o
 def check_ends(program, starts, level, side):
     """Raise the error for the first of these values that is not valid."""
     check_starts(program, starts)
+    check_level(program, level)
+    check_side(side)
+
+
+def check_level(program, level):
+    """Raise UnknownLevel for any value that is no level of a program."""
     if not is_one_of(level, program.levels()):
         raise UnknownLevel(level)
-    check_side(side)
 
 
 def composed(moves):

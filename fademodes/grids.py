@@ -35,6 +35,12 @@ def many_choices(sizes):
     return found
 
 
+def moved_cell(cell, at, position):
+    """Return a cell with another position for the level at `at`."""
+    mode, positions = cell
+    return mode, (*positions[:at], position, *positions[at + 1:])
+
+
 class Track:
     """A rule, told by the positions of a cell: when it applies, and where it leads."""
 
@@ -45,9 +51,13 @@ class Track:
         self._tests = tests
         self._leads = leads
 
+    def truths(self, positions):
+        """Return the list of the truths of the conditions at these positions."""
+        return [(positions[at] >= first) == is_wanted for at, first, is_wanted in self._tests]
+
     def takes(self, positions):
         """Tell whether the rule applies at these positions."""
-        return all([(positions[at] >= first) == is_wanted for at, first, is_wanted in self._tests])
+        return all(self.truths(positions))
 
     def turn(self, positions):
         """Return what the rule does: the tuple (cell, answer, place)."""
@@ -132,6 +142,28 @@ class Grid:
         if cell not in self._turns:
             self._turns[cell] = [self._turn(cell, letter) for letter in self._letters]
         return self._turns[cell]
+
+    def path(self, cell, history):
+        """Return the list of what each letter of a history does from a cell on: tuples (cell, answer, place)."""
+        found = []
+        here = cell
+        for letter in history:
+            found.append(self.turns(here)[self._letters.index(letter)])
+            here = found[-1][0]
+        return found
+
+    def behind(self, cell, history):
+        """Return the cell to which a history leads."""
+        path = self.path(cell, history)
+        return path[-1][0] if path else cell
+
+    def are_parted(self, one, other, history):
+        """Tell whether a history gets other last answers from two cells."""
+        return len(history) > 0 and self.path(one, history)[-1][1] != self.path(other, history)[-1][1]
+
+    def truths(self, place, cell):
+        """Return the list of the truths of the conditions of a rule in a cell."""
+        return self._track(place, self.program.rule(place)).truths(cell[1])
 
     def _turn(self, cell, letter):
         mode, positions = cell

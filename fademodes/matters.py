@@ -4,12 +4,11 @@ from fademodes.alike import are_alike
 from fademodes.classes import class_numbers, first_parting
 from fademodes.cuts import cut_key, ratio_cut
 from fademodes.errors import InvalidRules
-from fademodes.grids import every_choice, needed_grid
-from fademodes.kinds import is_list, is_one_of
+from fademodes.grids import every_choice, moved_cell, needed_grid
 from fademodes.machines import numbered_cells
 from fademodes.needed import check_mode_level_cut
 from fademodes.programs import check_program
-from fademodes.runs import is_state, ratio_state
+from fademodes.runs import is_history, is_state, ratio_state
 
 
 class Portrait:
@@ -29,7 +28,7 @@ class Portrait:
         for cell in self._found:
             mode, positions = cell
             for at, position in enumerate(positions):
-                behind = mode, (*positions[:at], position + 1, *positions[at + 1:])
+                behind = moved_cell(cell, at, position + 1)
                 if behind in self._numbers and self.class_of(cell) != self.class_of(behind):
                     self._parted.setdefault((mode, at, position), (cell, behind))
 
@@ -119,7 +118,7 @@ def is_why_matters(program, mode, level, cut, value):
     if not isinstance(value, tuple) or len(value) != 3:
         return False
     state, other, history = value
-    if not is_state(program, state) or not is_state(program, other) or not _is_history(program, history):
+    if not is_state(program, state) or not is_state(program, other) or not is_history(program, history):
         return False
     one, second = grid.cell_at(ratio_state(program, state)), grid.cell_at(ratio_state(program, other))
     at = list(program.levels()).index(level)
@@ -127,27 +126,12 @@ def is_why_matters(program, mode, level, cut, value):
         return False
     if cut_key(grid.stretches(second)[at][0]) != cut_key(ratio_cut(cut)):
         return False
-    return _last_answer(grid, one, history) != _last_answer(grid, second, history)
-
-
-def _is_history(program, value):
-    """Tell whether any value is a history that is not empty."""
-    letters = program.letters()
-    return is_list(value) and len(value) > 0 and all([is_one_of(letter, letters) for letter in value])
+    return grid.are_parted(one, second, history)
 
 
 def _is_next(cell, other, at):
     """Tell whether the other cell is the next one at this position, and the same at all others."""
-    positions = cell[1]
-    return other == (cell[0], (*positions[:at], positions[at] + 1, *positions[at + 1:]))
-
-
-def _last_answer(grid, cell, history):
-    letters = grid.program.letters()
-    here, answer = cell, None
-    for letter in history:
-        here, answer, _ = grid.turns(here)[letters.index(letter)]
-    return answer
+    return other == moved_cell(cell, at, cell[1][at] + 1)
 
 
 def idle_levels(program):

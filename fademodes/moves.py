@@ -72,12 +72,7 @@ class Move:
 
     def at(self, number):
         """Return what the move takes a number to."""
-        free = self._free(number)
-        if free.is_below(self._low):
-            return self._low
-        if self._high.is_below(free):
-            return self._high
-        return free
+        return self._held(self._free(number))
 
     def _free(self, number):
         """Return what a number would be taken to if nothing were held."""
@@ -100,14 +95,14 @@ class Move:
         place, is_met = ratio_cut(cut)
         free = self._free(place)
         is_flat_below = self._high.is_below(free) or not self._low.is_below(free)
-        return self.at(place), is_met or is_flat_below
+        return self._held(free), is_met or is_flat_below
 
     def lower_image(self, cut):
         """Return what the move makes of a lower end."""
         place, is_open = ratio_cut(cut)
         free = self._free(place)
         is_flat_above = free.is_below(self._low) or not free.is_below(self._high)
-        return self.at(place), is_open and not is_flat_above
+        return self._held(free), is_open and not is_flat_above
 
     def form(self, within):
         """Return the tuple that tells what the move does over a Range."""
@@ -143,8 +138,11 @@ class Move:
         rest = self._plus * (times - 1)
         return Move(1, self._plus * times, self._held(self._low + rest), self._held(self._high + rest))
 
-    def _held(self, number):
-        return Ratio.least(self._high, Ratio.greatest(self._low, number))
+    def _held(self, ratio):
+        """Return the number between low and high that is next to this one."""
+        if ratio.is_below(self._low):
+            return self._low
+        return self._high if self._high.is_below(ratio) else ratio
 
     def tends(self, number):
         """Return the limit of a number, and the turns behind which it is reached, or None."""

@@ -1,32 +1,39 @@
 """Passing: the first of the shortest histories by which a level passes a cut."""
 
 from fademodes.climbs import Climb
-from fademodes.errors import TooMany
 from fademodes.sides import beyond_in_stretch, farther, is_beyond
 
-MOST_LETTERS = 300
+
+def is_passed(field, cut, wanted):
+    """Tell whether some history passes a cut in one of the cells with these numbers."""
+    found = Climb(field).ends
+    return any([is_beyond(field.side, found[number], cut) for number in wanted])
 
 
-def first_passing(field, cut):
-    """Return a tuple (state, history) of a state of a start and the first history that passes a cut, or None."""
-    if not any([is_beyond(field.side, end, cut) for end in Climb(field).ends]):
+def first_passing(field, cut, wanted, most):
+    """Return a tuple (state, history) of a state of a start and the first history that passes a cut, or None.
+
+    It is passed in one of the cells with these numbers, by at most so many letters.
+    """
+    goals = {number: True for number in wanted}
+    layers = _layers(field, cut, goals, most)
+    if layers is None:
         return None
-    layers = _layers(field, cut)
-    letters = _first_letters(field, layers, _needs(field, cut, layers))
-    return _first_state(field, cut, letters), field.named(letters)
+    letters = _first_letters(field, layers, _needs(field, cut, layers, goals))
+    return _first_state(field, cut, letters, goals), field.named(letters)
 
 
-def _layers(field, cut):
+def _layers(field, cut, goals, most):
     """Return a list of dicts from cells to ends, one for each number of letters up to the fewest that pass a cut.
 
     Each has only the ends that are farther than with fewer letters: what others lead to, is
-    led to by fewer letters, too.
+    led to by fewer letters, too. None if so many letters as there may be are too few.
     """
     found = {number: field.begins[number][0] for number in field.begins}
     layers = [dict(found)]
-    while not any([is_beyond(field.side, end, cut) for end in list(layers[-1].values())]):
-        if len(layers) > MOST_LETTERS:
-            raise TooMany("letters", MOST_LETTERS)
+    while not any([is_beyond(field.side, end, cut) for number, end in layers[-1].items() if number in goals]):
+        if len(layers) > most:
+            return None
         layers.append(_farther_ends(field, found, layers[-1]))
         found.update(layers[-1])
     return layers
@@ -44,9 +51,9 @@ def _farther_ends(field, found, layer):
     return fresh
 
 
-def _needs(field, cut, layers):
+def _needs(field, cut, layers, goals):
     """Return for each layer a dict from its cells to cuts: the numbers beyond these pass the cut in time."""
-    found = [{number: cut for number in layers[-1]}]
+    found = [{number: cut for number in layers[-1] if number in goals}]
     for layer in reversed(layers[:-1]):
         found.append(_needs_ahead(field, layer, found[-1]))
     return found[::-1]
@@ -92,18 +99,18 @@ def _able(field, here, letter, needs):
     return found
 
 
-def _first_state(field, cut, letters):
+def _first_state(field, cut, letters, goals):
     """Return a state of a start from which these letters pass the cut."""
     for number in field.begins:
         end, position = field.begins[number]
-        need = _led_back(field, cut, number, letters)
-        if is_beyond(field.side, end, need):
+        last, need = _led_back(field, cut, number, letters)
+        if last in goals and is_beyond(field.side, end, need):
             stretch = beyond_in_stretch(field.side, field.level_part(position, number), need)
             return field.state(position, field.part_beyond(position, number, stretch))
 
 
 def _led_back(field, cut, number, letters):
-    """Return the cut led back along letters from a cell."""
+    """Return the cell to which letters lead from a cell, and the cut led back along them."""
     moves = []
     here = number
     for letter in letters:
@@ -112,4 +119,4 @@ def _led_back(field, cut, number, letters):
     need = cut
     for move in reversed(moves):
         need = move.back(need, field.held)
-    return need
+    return here, need

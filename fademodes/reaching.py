@@ -2,11 +2,11 @@
 
 from fademodes.climbs import Climb, Field, check_ends, composed
 from fademodes.cuts import is_cut, ratio_cut
-from fademodes.errors import InvalidCell, InvalidCut, InvalidPaper
+from fademodes.errors import InvalidCell, InvalidCut, InvalidPaper, TooMany
 from fademodes.grids import needed_grid
-from fademodes.kinds import is_list, is_one_of, is_position
-from fademodes.passing import first_passing
-from fademodes.runs import is_state, ratio_state
+from fademodes.kinds import is_position
+from fademodes.passing import first_passing, is_passed
+from fademodes.runs import MOST_LETTERS_RUN, is_history, is_state, ratio_state
 from fademodes.sides import end_of_stretch, image, limit
 from fademodes.starts import is_in_start, part_in_cell
 
@@ -30,15 +30,13 @@ def paper_end(program, starts, level, side, paper):
     first = grid.cell_at(ratio_state(program, state))
     at = list(program.levels()).index(level)
     end = end_of_stretch(side, part_in_cell(grid, starts[position], first)[at])
-    cell, moves = _led(grid, first, level, ahead)
-    end = _end_behind(side, end, moves)
+    end = _end_behind(side, end, _moves_along(grid, first, level, ahead))
+    cell = grid.behind(first, ahead)
+    if grid.behind(cell, turn) != cell:
+        raise InvalidPaper(paper)
     if len(turn) > 0:
-        round_cell, moves = _led(grid, cell, level, turn)
-        if round_cell != cell:
-            raise InvalidPaper(paper)
-        end = limit(side, composed(moves), end)
-    cell, moves = _led(grid, cell, level, behind)
-    return cell, _end_behind(side, end, moves)
+        end = limit(side, composed(_moves_along(grid, cell, level, turn)), end)
+    return grid.behind(cell, behind), _end_behind(side, end, _moves_along(grid, cell, level, behind))
 
 
 def first_beyond(program, starts, level, side, cut):
@@ -46,7 +44,14 @@ def first_beyond(program, starts, level, side, cut):
     check_ends(program, starts, level, side)
     if not is_cut(cut):
         raise InvalidCut(cut)
-    return first_passing(Field(program, starts, level, side), ratio_cut(cut))
+    field = Field(program, starts, level, side)
+    wanted = list(range(len(field.ways)))
+    if not is_passed(field, ratio_cut(cut), wanted):
+        return None
+    found = first_passing(field, ratio_cut(cut), wanted, MOST_LETTERS_RUN)
+    if found is None:
+        raise TooMany("letters", MOST_LETTERS_RUN)
+    return found
 
 
 def _has_form(program, starts, value):
@@ -55,18 +60,12 @@ def _has_form(program, starts, value):
         return False
     if not is_state(program, value[1]) or not is_in_start(value[1], starts[value[0]]):
         return False
-    letters = program.letters()
-    return all([is_list(history) and all([is_one_of(letter, letters) for letter in history]) for history in value[2:]])
+    return all([is_history(program, history) for history in value[2:]])
 
 
-def _led(grid, cell, level, history):
-    """Return the cell to which a history leads, and the list of the moves of the level on the way."""
-    letters = grid.program.letters()
-    here, moves = cell, []
-    for letter in history:
-        here, _, place = grid.turns(here)[letters.index(letter)]
-        moves.append(grid.program.move_of(place, level))
-    return here, moves
+def _moves_along(grid, cell, level, history):
+    """Return the list of the moves of a level along a history."""
+    return [grid.program.move_of(place, level) for _, _, place in grid.path(cell, history)]
 
 
 def _end_behind(side, end, moves):

@@ -42,7 +42,8 @@ def step(program, state, letter):
 def run(program, state, history):
     """Yield what step returns for each letter of a history."""
     here = ratio_state(program, state)
-    _check_history(program, history)
+    check_history(program, history)
+    check_many_letters(len(history))
     for letter in list(history):
         here, answer, place = _stepped(program, here, letter)
         # What is yielded can be changed from outside ahead of the next letter.
@@ -72,14 +73,25 @@ def moves_behind(program, state, history):
     return moves
 
 
-def _check_history(program, history):
+def is_history(program, value):
+    """Tell whether any value is a history, of any length."""
+    letters = program.letters()
+    return is_list(value) and all([is_one_of(letter, letters) for letter in value])
+
+
+def check_history(program, history):
+    """Raise InvalidHistory for any value that is no history."""
     if not is_list(history):
         raise InvalidHistory(None)
     letters = program.letters()
     for position, letter in enumerate(history):
         if not is_one_of(letter, letters):
             raise InvalidHistory(position)
-    if len(history) > MOST_LETTERS_RUN:
+
+
+def check_many_letters(many):
+    """Raise TooMany if numbers are to be led along more letters than the limit."""
+    if many > MOST_LETTERS_RUN:
         raise TooMany("letters", MOST_LETTERS_RUN)
 
 

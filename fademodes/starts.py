@@ -15,11 +15,12 @@ def check_starts(program, starts):
     if not is_list(starts) or len(starts) == 0:
         raise InvalidStarts(None)
     for position, start in enumerate(starts):
-        if not _is_start(program, start):
+        if not is_start(program, start):
             raise InvalidStarts(position)
 
 
-def _is_start(program, value):
+def is_start(program, value):
+    """Tell whether any value is a start of the program."""
     if not isinstance(value, tuple) or len(value) != 2:
         return False
     mode, held = value
@@ -93,6 +94,15 @@ def state_in_part(start, part):
     return start[0], dict(zip(sorted(start[1]), marks))
 
 
+def met_state(grid, starts, cell):
+    """Return a state of the starts in a cell that they meet."""
+    for start in starts:
+        if start[0] == cell[0]:
+            part = part_in_cell(grid, start, cell)
+            if all([precedes(stretch[0], stretch[1]) for stretch in part]):
+                return state_in_part(start, part)
+
+
 class Reach:
     """The cells that are come to from given ones, in sequence, numbered from 0."""
 
@@ -120,6 +130,10 @@ class Reach:
         self._came.append(came)
         if len(self.found) > MOST_CELLS:
             raise TooMany("cells", MOST_CELLS)
+
+    def met(self):
+        """Return the list of the cells that are met, which come first."""
+        return [cell for cell, came in zip(self.found, self._came) if came is None]
 
     def came(self, number):
         """Return the number of the cell ahead and the position of the letter, or None for a cell that is met."""
