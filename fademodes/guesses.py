@@ -23,15 +23,15 @@ def pairs_key(groups):
     Other groups can make the same pairs, so it is told by all numbers that a number is paired
     with, those that are paired alike being put together.
     """
-    places = {}
-    for place, group in enumerate(groups):
+    within = {}
+    for at, group in enumerate(groups):
         for number in group:
-            places.setdefault(number, []).append(place)
+            within.setdefault(number, []).append(at)
     alike = {}
-    for number in sorted(places):
-        alike.setdefault(tuple(places[number]), []).append(number)
+    for number in sorted(within):
+        alike.setdefault(tuple(within[number]), []).append(number)
     paired = {}
     for among in alike:
-        others = {number: True for place in among for number in groups[place]}
+        others = {number: True for at in among for number in groups[at]}
         paired.setdefault(tuple(sorted(others)), []).extend(alike[among])
     return tuple(sorted([(others, tuple(sorted(paired[others]))) for others in paired]))

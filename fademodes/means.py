@@ -40,16 +40,16 @@ class Valley:
 
     def _chosen_rounds(self):
         """Return the lists of the rows of the rounds to which the chosen letters lead."""
-        walks = [None] * len(self._nexts)
+        met_by = [None] * len(self._nexts)
         rounds = []
-        for first in range(len(walks)):
-            here, walk = first, []
-            while walks[here] is None:
-                walks[here] = first
-                walk.append(here)
+        for first in range(len(met_by)):
+            here, way = first, []
+            while met_by[here] is None:
+                met_by[here] = first
+                way.append(here)
                 here = self._next(here)
-            if walks[here] == first and walk:
-                rounds.append(walk[walk.index(here):])
+            if met_by[here] == first and way:
+                rounds.append(way[way.index(here):])
         return rounds
 
     def _next(self, row):
@@ -68,12 +68,12 @@ class Valley:
         for root in roots:
             is_done[root] = True
         for first in range(len(is_done)):
-            here, walk = first, []
+            here, way = first, []
             while not is_done[here]:
                 is_done[here] = True
-                walk.append(here)
+                way.append(here)
                 here = self._next(here)
-            for row in reversed(walk):
+            for row in reversed(way):
                 self._values[row] = self._values[self._next(row)] + self._cost(row, self._letters[row])
 
     def _is_improved(self):

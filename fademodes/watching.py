@@ -34,7 +34,7 @@ def _asked(letters, letter):
 
 
 def _ends_of_starts(grid, starts, at, limit):
-    """Return the dict from the cells that starts meet to tuples (lower end, upper end) of the level at this position."""
+    """Return the dict from the cells that starts meet to tuples (lower end, upper end) of the level at `at`."""
     ends = {}
     for start in starts:
         for cell in cells_of_start(grid, start, limit):
