@@ -1,13 +1,13 @@
 """Watching: what one who hears answers knows of the state."""
 
 from fademodes.climbs import check_level
+from fademodes.cuts import cut_key, precedes
 from fademodes.errors import InvalidHeard, TooMany
 from fademodes.grids import needed_grid
 from fademodes.guesses import groups_behind, pairs_key
 from fademodes.kinds import is_list, is_name, is_one_of
 from fademodes.machines import numbered_cells
 from fademodes.runs import check_history
-from fademodes.sides import ENDS, farther, image
 from fademodes.starts import cells_of_start, check_starts, part_in_cell, reach_of
 
 MOST_HEARD = 300
@@ -21,45 +21,67 @@ def heard_ends(program, starts, heard, level):
     check_level(program, level)
     grid = needed_grid(program)
     reach = reach_of(grid, starts)
-    ends = _ends_of_starts(grid, starts, list(program.levels()).index(level), len(reach.found))
+    ears = Ears(grid, level)
+    ends = ears.first(starts, len(reach.found))
     letters = program.letters()
     for letter, answer in heard:
-        ends = _ends_behind(grid, ends, _asked(letters, letter), answer, level)
+        ends = ears.behind(ends, _asked(letters, letter), answer)
     return {cell: ends[cell] for cell in sorted(ends)}
+
+
+class Ears:
+    """How letters that get an answer that was heard lead the ends of a level on.
+
+    Ends are tuples (lower end, upper end), in dicts from the cells that have states that fit.
+    """
+
+    def __init__(self, grid, level):
+        self._grid = grid
+        self._level = level
+        self._images = {}
+
+    def first(self, starts, limit):
+        """Return the ends in the cells that starts meet, which are at most so many."""
+        at = list(self._grid.program.levels()).index(self._level)
+        ends = {}
+        for start in starts:
+            for cell in cells_of_start(self._grid, start, limit):
+                _widen(ends, cell, part_in_cell(self._grid, start, cell)[at])
+        return ends
+
+    def behind(self, ends, asked, answer):
+        """Return the ends behind one of the letters at these positions that gets this answer."""
+        found = {}
+        for cell in ends:
+            turns = self._grid.turns(cell)
+            for letter in asked:
+                behind, told, place = turns[letter]
+                if told == answer:
+                    _widen(found, behind, self._led(place, ends[cell]))
+        return found
+
+    def _led(self, place, pair):
+        """Return what the rule at a place makes of two ends: the same ones come again and again."""
+        lower, upper = pair
+        key = place, cut_key(lower), cut_key(upper)
+        if key not in self._images:
+            move = self._grid.program.move_of(place, self._level)
+            self._images[key] = move.lower_image(lower), move.upper_image(upper)
+        return self._images[key]
+
+
+def _widen(ends, cell, pair):
+    """Keep the farther ones of these ends and those that are known for a cell."""
+    if cell not in ends:
+        ends[cell] = pair
+        return
+    lower, upper = ends[cell]
+    ends[cell] = (pair[0] if precedes(pair[0], lower) else lower), (pair[1] if precedes(upper, pair[1]) else upper)
 
 
 def _asked(letters, letter):
     """Return the list of the positions of the letters that were perhaps asked: all, if none was heard."""
     return list(range(len(letters))) if letter is None else [letters.index(letter)]
-
-
-def _ends_of_starts(grid, starts, at, limit):
-    """Return the dict from the cells that starts meet to tuples (lower end, upper end) of the level at `at`."""
-    ends = {}
-    for start in starts:
-        for cell in cells_of_start(grid, start, limit):
-            stretch = part_in_cell(grid, start, cell)[at]
-            ends[cell] = _wider(ends.get(cell, stretch), stretch)
-    return ends
-
-
-def _ends_behind(grid, ends, asked, answer, level):
-    """Return the ends behind one of the letters at these positions that gets this answer."""
-    found = {}
-    for cell in ends:
-        turns = grid.turns(cell)
-        for letter in asked:
-            behind, told, place = turns[letter]
-            if told == answer:
-                move = grid.program.move_of(place, level)
-                led = (image(ENDS[1], move, ends[cell][0]), image(ENDS[0], move, ends[cell][1]))
-                found[behind] = _wider(found.get(behind, led), led)
-    return found
-
-
-def _wider(one, other):
-    """Return the lower one of two lower ends, and the upper one of two upper ends."""
-    return farther(ENDS[1], one[0], other[0]), farther(ENDS[0], one[1], other[1])
 
 
 def heard_modes(program, starts, heard):
