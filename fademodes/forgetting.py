@@ -12,7 +12,7 @@ def forgotten_within(program, starts):
     check_starts(program, starts)
     partings = Partings(program, starts)
     at = partings.longest_first()
-    return 0 if at is None else partings.count(at)
+    return 0 if at is None else partings.letters_apart(at)
 
 
 def remembered(program, starts):
@@ -26,12 +26,11 @@ def remembered_and_parted(program, starts):
     """Return this tuple for valid starts, with a history behind it that parts the cells behind `ahead`, or None."""
     partings = Partings(program, starts)
     at = partings.longest_first()
-    if at is None or partings.count(at) is not None:
+    if at is None or partings.letters_apart(at) is not None:
         return None
     state, other = _states_of(program, starts, partings.pair_of_cells(at))
-    ahead, turn = partings.way_round(at)
-    parted = partings.parting(at, ahead)
-    return state, other, _named(program, ahead), _named(program, turn), _named(program, parted)
+    ahead, turn, parted = partings.ways_round(at)
+    return state, other, ahead, turn, parted
 
 
 def is_remembered(program, starts, value):
@@ -64,10 +63,10 @@ def still_apart(program, starts):
     check_starts(program, starts)
     partings = Partings(program, starts)
     at = partings.longest_first()
-    if at is None or not partings.count(at):
+    if at is None or not partings.letters_apart(at):
         return None
     state, other = _states_of(program, starts, partings.pair_of_cells(at))
-    return state, other, _named(program, partings.way_apart(at))
+    return state, other, partings.way_apart(at)
 
 
 def matters_within(program, state, level):
@@ -86,9 +85,3 @@ def _is_among(program, starts, value):
 def _states_of(program, starts, pair):
     """Return states of the starts in two cells."""
     return [met_state(needed_grid(program), starts, cell) for cell in pair]
-
-
-def _named(program, letters):
-    """Return the names of letters that are told by their positions."""
-    names = program.letters()
-    return [names[letter] for letter in letters]

@@ -1,6 +1,7 @@
 """Hands: in which states a hand that chooses letters in some modes can avoid bad answers for ever."""
 
-from fademodes.errors import InvalidBad, InvalidHand, UnknownLevel
+from fademodes.climbs import check_level
+from fademodes.errors import InvalidBad, InvalidHand
 from fademodes.games import forced_ranks, safe_letter
 from fademodes.grids import moved_cell, needed_grid
 from fademodes.kinds import is_integer, is_list, is_name, is_one_of
@@ -184,10 +185,8 @@ def _contest_of_all(program, hand, bad):
 
 def _checked_level(program, level):
     """Return the position of a level of a program."""
-    names = list(program.levels())
-    if not is_one_of(level, names):
-        raise UnknownLevel(level)
-    return names.index(level)
+    check_level(program, level)
+    return list(program.levels()).index(level)
 
 
 def _joined_stretches(grid, mode, at, flags):

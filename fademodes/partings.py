@@ -20,6 +20,7 @@ class Partings:
         grid = needed_grid(program)
         reach = reach_of(grid, starts)
         self._reach = reach
+        self._letters = program.letters()
         self._answers, self._nexts = numbered_cells(grid, reach.found, reach.numbers)
         self._classes = class_numbers(self._answers, self._nexts)
         self.found = []
@@ -71,7 +72,7 @@ class Partings:
         one, other = self.found[at]
         return self._reach.found[one], self._reach.found[other]
 
-    def count(self, at):
+    def letters_apart(self, at):
         """Return the least number of letters behind which a pair is no longer apart, or None."""
         if not self._is_apart(self.found[at]):
             return 0
@@ -85,33 +86,34 @@ class Partings:
         found = {(cell, cell): 0 for cell in self._reach.found}
         for at in range(len(self.found)):
             one, other = self.pair_of_cells(at)
-            found[min(one, other), max(one, other)] = self.count(at)
+            found[min(one, other), max(one, other)] = self.letters_apart(at)
         return {pair: found[pair] for pair in sorted(found)}
 
     def longest_first(self):
         """Return the place of that pair of the starts that stays apart for the most letters, or None without pairs."""
         best = None
         for at in range(self._many_first):
-            count = self.count(at)
-            if count is None:
+            many = self.letters_apart(at)
+            if many is None:
                 return at
-            if best is None or count > self.count(best):
+            if best is None or many > self.letters_apart(best):
                 best = at
         return best
 
     def way_apart(self, at):
-        """Return letters, one less than the count of a pair, behind which it is still apart."""
+        """Return a history, of one letter less than a pair stays apart, behind which it is still apart."""
         letters = []
         here = at
-        while self.count(here) > 1:
+        while self.letters_apart(here) > 1:
             letter, here = self._next_apart(here)
             letters.append(letter)
-        return letters
+        return self._named(letters)
 
-    def way_round(self, at):
-        """Return letters behind which a pair that is apart for ever comes to one that more letters lead to itself.
+    def ways_round(self, at):
+        """Return for a pair that stays apart for ever histories `ahead`, `round` and `parting`.
 
-        Cells that have changed places come back to their own when they go round once more.
+        `ahead` leads it to a pair that `round` leads to itself, and that `parting` parts. Cells
+        that have changed places come back to their own when they go round once more.
         """
         seen, letters = {}, []
         here = at
@@ -120,23 +122,19 @@ class Partings:
             letter, here = self._next_apart(here)
             letters.append(letter)
         ahead, turn = letters[:seen[here]], letters[seen[here]:]
-        one = self.found[here][0]
+        one, other = self.found[here]
         if self._behind(one, turn) != one:
             turn = turn + turn
-        return ahead, turn
+        parted = first_parting(self._answers, self._nexts, one, other)
+        return self._named(ahead), self._named(turn), self._named(parted)
 
     def _next_apart(self, at):
         """Return the first letter behind which a pair stays apart for as long as it can, and the pair there."""
-        count = self.count(at)
-        wanted = None if count is None else count - 1
+        many = self.letters_apart(at)
+        wanted = None if many is None else many - 1
         for letter, pair in enumerate(self._pairs_behind(self.found[at])):
-            if pair in self._places and self.count(self._places[pair]) == wanted:
+            if pair in self._places and self.letters_apart(self._places[pair]) == wanted:
                 return letter, self._places[pair]
-
-    def parting(self, at, letters):
-        """Return the letters of the first of the shortest histories that part the cells behind letters of a pair."""
-        one, other = [self._behind(number, letters) for number in self.found[at]]
-        return first_parting(self._answers, self._nexts, one, other)
 
     def _behind(self, number, letters):
         """Return the cell to which letters lead a cell."""
@@ -144,3 +142,7 @@ class Partings:
         for letter in letters:
             here = self._nexts[here][letter]
         return here
+
+    def _named(self, letters):
+        """Return the names of letters that are told by their positions."""
+        return [self._letters[letter] for letter in letters]

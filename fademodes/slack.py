@@ -133,7 +133,7 @@ def slacks(program, starts):
     grid = needed_grid(program)
     found = reach_of(grid, starts).found
     outlook = Outlook(program, starts)
-    rows = [place for place in program.places() if program.rule(place).when()]
+    rows = list(program.places())
     for place in rows:
         deciders = Deciders(grid, found, place)
         for position, condition in enumerate(program.rule(place).when()):

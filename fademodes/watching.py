@@ -106,7 +106,7 @@ class Watch:
         reach = reach_of(grid, starts)
         self._modes = [cell[0] for cell in reach.found]
         self._answers, self._nexts = numbered_cells(grid, reach.found, reach.numbers)
-        self.first = [tuple(range(len(reach.met())))]
+        self.groups_met = [tuple(range(len(reach.met())))]
 
     def behind(self, groups, letter):
         """Return the groups behind one more letter."""
@@ -122,10 +122,10 @@ def telling(program, starts):
     check_starts(program, starts)
     watch = Watch(program, starts)
     letters = program.letters()
-    if watch.is_told(watch.first):
+    if watch.is_told(watch.groups_met):
         return []
-    seen = {pairs_key(watch.first): True}
-    layer = [(watch.first, [])]
+    seen = {pairs_key(watch.groups_met): True}
+    layer = [(watch.groups_met, [])]
     while layer:
         fresh = []
         for groups, history in layer:
@@ -150,7 +150,7 @@ def is_telling(program, starts, history):
     check_history(program, history)
     watch = Watch(program, starts)
     letters = program.letters()
-    groups = watch.first
+    groups = watch.groups_met
     for letter in history:
         groups = watch.behind(groups, letters.index(letter))
     return watch.is_told(groups)
