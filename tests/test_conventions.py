@@ -2,6 +2,7 @@
 
 import copy
 import inspect
+import re
 import unittest
 
 from examples import HELD, Checks, mute
@@ -97,7 +98,7 @@ def spoil(value):
 
 def plain(value):
     """Return what a value is, for a comparison in which the classes within and the sequence of keys count."""
-    return repr(value), value
+    return re.sub(" at 0x[0-9a-f]+", "", repr(value)), value
 
 
 class Conventions(Checks):
@@ -113,8 +114,7 @@ class Conventions(Checks):
     def test_each_query_again(self):
         for module, name, args in CALLS:
             call = getattr(module, name)
-            if name not in ("Course", "moves_behind"):
-                self.assertEqual(plain(told(call, args)), plain(told(call, args)), name)
+            self.assertEqual(plain(told(call, args)), plain(told(call, args)), name)
 
     def test_results_are_new_and_arguments_are_not_changed(self):
         for module, name, args in CALLS:
