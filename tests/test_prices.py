@@ -93,6 +93,24 @@ class Cheapest(Checks):
                     paid[behind] = min(paid.get(behind, 10 ** 9), paid[cell] + prices[letter])
         return min((paid[cell] + prices[letter] for cell in rows for letter, told in turns[cell].items() if told[1] == answer), default=None)
 
+    def test_no_short_history_is_cheaper(self):
+        for seed, (program, _) in enumerate(cases()):
+            chance = Chance(seed)
+            starts = [chance.state(program) for _ in range(2)]
+            prices = {letter: chance.random.choice((0, 1, 2, 3)) for letter in program.letters()}
+            least = {}
+            for start, many in product(starts, range(1, 6)):
+                for history in product(program.letters(), repeat=many):
+                    price, answer = sum(prices[letter] for letter in history), answers_to(program, start, history)[-1]
+                    least[answer] = min(least.get(answer, price), price)
+            for answer in program.answers():
+                found = self.check_found(program, starts, answer, prices)
+                if answer in least:
+                    self.assertLessEqual(found, least[answer])
+                # With more letters than these, each but the first few would have to be for nothing.
+                if found is not None and (answer not in least or found < least[answer]):
+                    self.assertGreater(len(cheapest_to(program, starts, answer, prices)[2]), 5)
+
     def test_a_long_way_that_is_cheaper(self):
         held = Range(0, 400)
         rules = {"on": {"one": [Rule("on", "yes", when=[("x", "from", 400)]), Rule("on", "no", moves={"x": Move.adding(1, held)})],
