@@ -107,7 +107,7 @@ class Cheapest(Checks):
                 found = self.check_found(program, starts, answer, prices)
                 if answer in least:
                     self.assertLessEqual(found, least[answer])
-                # With more letters than these, each but the first few would have to be for nothing.
+                # What is cheaper than all of these has more letters than were tried here.
                 if found is not None and (answer not in least or found < least[answer]):
                     self.assertGreater(len(cheapest_to(program, starts, answer, prices)[2]), 5)
 
