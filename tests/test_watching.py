@@ -8,6 +8,7 @@ from fademodes.cells import cell_of, cell_step, cells_met, come_to
 from fademodes.cuts import Range
 from fademodes.errors import (
     InvalidHeard, InvalidHistory, InvalidProgram, InvalidStarts, TooMany, UnknownLevel)
+from fademodes.guesses import pairs_key
 from fademodes.joins import joined_behind, side_by_side
 from fademodes.moves import Move
 from fademodes.programs import Program, Rule
@@ -241,6 +242,22 @@ class Telling(Checks):
     def test_new_each_time(self):
         telling(MUTE, ALL).clear()
         self.same(telling(MUTE, ALL), ["report"])
+
+
+class Pairs(Checks):
+    def test_groups_that_make_the_same_pairs(self):
+        for one, other, are_same in (([(1, 2, 3)], [(1, 2), (1, 3), (2, 3)], True), ([(1, 2), (3,)], [(3,), (1,), (1, 2)], True), ([(1, 2), (2, 3)], [(1, 2, 3)], False),
+                                     ([(1, 2), (3, 4)], [(1, 3), (2, 4)], False), ([(1,), (2,)], [(1, 2)], False), ([(1, 2, 3, 4)], [(1, 2, 3), (2, 3, 4), (1, 4)], True),
+                                     ([(1, 2, 3, 4)], [(1, 2, 3), (2, 3, 4)], False)):
+            self.assertIs(pairs_key(one) == pairs_key(other), are_same)
+
+    def test_as_the_sets_of_pairs_themselves(self):
+        chance = Chance(7).random
+        families = [[tuple(sorted(chance.sample(range(4), chance.randint(1, 3)))) for _ in range(chance.randint(1, 4))] for _ in range(150)]
+        rows = [(pairs_key(family), {(one, other) for group in family for one in group for other in group}) for family in families]
+        for key, pairs in rows:
+            for other_key, others in rows:
+                self.assertIs(key == other_key, pairs == others)
 
 
 def two_counters(many, more, tell=None):
