@@ -188,6 +188,20 @@ class Limits(Checks):
         self.same([course.limits(place) for place in (0, 1)], [{"x": (Ratio(2), False)}, {"x": (Ratio(3), False)}])
         self.same([course.limit_cell(place) for place in (0, 1)], [("a", (0,)), ("b", (0,))])
 
+    def test_places_of_a_ring_that_is_come_to_later(self):
+        held = Range(0, 100)
+        rules = {"y": {"go": [Rule("z", "no", moves={"x": Move.setting(90)})]}, "z": {"go": [Rule("a", "no", moves={"x": Move(1, 0, 40, 50)})]},
+                 "a": {"go": [Rule("b", "no", moves={"x": Move(3, 7, 0, 100)})]}, "b": {"go": [Rule("c", "no", moves={"x": Move(2, 1, 0, 100)})]},
+                 "c": {"go": [Rule("a", "no", moves={"x": Move.adding(1, held)})]}}
+        course = Course(Program({"x": held}, rules), ("y", {"x": 0}), ["go"])
+        self.same((course.begin, course.ring, course.stands_from), (2, 3, None))
+        self.same([course.cell(turns)[0] for turns in range(12)], list("yzabcabcabca"))
+        self.same([course.cell(10 ** 30 - at)[0] for at in range(4)], list("cbac"))
+        # Around from a: ((x + 7) / 3 + 1) / 2 + 1 = (x + 16) / 6, which stays at 16/5.
+        wanted = [Ratio(16, 5), Ratio(17, 5), Ratio(11, 5)]
+        self.same([course.limits(place) for place in range(3)], [{"x": (number, False)} for number in wanted])
+        self.same([course.limit_cell(place)[0] for place in range(3)], list("abc"))
+
     def test_places_that_are_none(self):
         course = Course(lights(), ("red", {}), ["go"])
         for call in (course.limits, course.limit_cell):
